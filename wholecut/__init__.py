@@ -1,0 +1,1 @@
+"""Wholecut: the greatest gain of whole numbers within rows."""
